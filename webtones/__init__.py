@@ -1,0 +1,1 @@
+"""Webtones: webs, and what rings in them, exactly."""

@@ -1,0 +1,1 @@
+"""Fractions, and the roots of polynomials of them."""

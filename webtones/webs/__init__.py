@@ -1,0 +1,1 @@
+"""Webs: places tied two by two."""
