@@ -4,6 +4,7 @@ import operator
 import unittest
 from fractions import Fraction
 
+from tests.helpers import pair
 from webtones.roots.fractions import (
     common_divisor,
     compared_fractions,
@@ -18,10 +19,6 @@ from webtones.roots.fractions import (
 
 SOME = [fraction_of(above, below) for above in range(-7, 8) for below in range(1, 7)]
 GREAT = [(10**12 - 1, 10**12), (1 - 10**12, 999999999989), (3**80, 2**90), (-(7**60), 5**40)]
-
-
-def pair(number):
-    return number.numerator, number.denominator
 
 
 class Wholes(unittest.TestCase):

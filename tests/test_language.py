@@ -24,6 +24,19 @@ BARRED_NODES = (
     ast.Global, ast.AsyncFunctionDef, ast.AsyncFor, ast.AsyncWith, ast.Await, ast.Div, ast.MatMult, ast.Import,
 )
 
+TAKERS = set("list tuple dict sorted sum min max any all join enumerate zip len reversed".split())
+ITERATED = set("zip enumerate reversed range items keys values".split())
+METHODS = set(
+    "append clear copy count endswith extend find get index insert isalnum isalpha isdigit islower isspace isupper "
+    "items join keys ljust lower lstrip partition pop remove replace reverse rfind rjust rpartition rsplit rstrip "
+    "setdefault split splitlines startswith strip update upper values zfill bit_length add discard __init__".split()
+)
+
+
+def called(node):
+    """The name of the function or the method that is called."""
+    return node.func.id if isinstance(node.func, ast.Name) else getattr(node.func, "attr", None)
+
 
 def bound_names(tree):
     for node in ast.walk(tree):
@@ -114,6 +127,61 @@ class Language(unittest.TestCase):
                     self.assertNotIn(node.id, imported)
 
         self.each(check)
+
+    def test_exponents_are_written_out(self):
+        def check(text, tree):
+            for node in ast.walk(tree):
+                if isinstance(node, (ast.BinOp, ast.AugAssign)) and isinstance(node.op, ast.Pow):
+                    exponent = node.right if isinstance(node, ast.BinOp) else node.value
+                    self.assertIsInstance(exponent, ast.Constant)
+
+        self.each(check)
+
+    def test_what_is_iterated_at_once(self):
+        def check(text, tree):
+            allowed = set()
+            for node in ast.walk(tree):
+                if isinstance(node, (ast.For, ast.comprehension)):
+                    allowed.add(id(node.iter))
+                elif isinstance(node, ast.Call) and called(node) in TAKERS and node.args:
+                    allowed.update(id(argument) for argument in node.args)
+            for node in ast.walk(tree):
+                if isinstance(node, ast.GeneratorExp) or isinstance(node, ast.Call) and called(node) in ITERATED:
+                    self.assertIn(id(node), allowed, getattr(node, "lineno", None))
+
+        self.each(check)
+
+    def test_is_stands_with_none_and_truths_only(self):
+        def check(text, tree):
+            for node in ast.walk(tree):
+                if isinstance(node, ast.Compare) and isinstance(node.ops[0], (ast.Is, ast.IsNot)):
+                    self.assertIsInstance(node.comparators[0], ast.Constant)
+                    self.assertIn(node.comparators[0].value, (None, True, False))
+
+        self.each(check)
+
+    def test_methods_of_builtin_values(self):
+        def check(text, tree):
+            for node in ast.walk(tree):
+                if isinstance(node, ast.Call) and isinstance(node.func, ast.Attribute):
+                    self.assertIn(node.func.attr, METHODS)
+
+        self.each(check)
+
+    def test_no_two_files_import_from_each_other(self):
+        sources = {}
+        for path in FILES:
+            name = ".".join(path.relative_to(ROOT).with_suffix("").parts)
+            rows = ast.parse(path.read_text(encoding="utf-8")).body
+            sources[name] = [row.module for row in rows if isinstance(row, ast.ImportFrom)]
+
+        def reached(name, path):
+            self.assertNotIn(name, path)
+            for source in sources[name]:
+                reached(source, path + [name])
+
+        for name in sources:
+            reached(name, [])
 
 
 if __name__ == "__main__":

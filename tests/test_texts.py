@@ -2,35 +2,12 @@
 
 import copy
 import itertools
-import random
 import unittest
 
+from tests.helpers import some_webs, web_of
 from webtones.errors import NoAsk, NoName, NoParting, NoRoot, NoWeb, ToneError
 from webtones.webs.texts import read_web, web_shown
 from webtones.webs.words import is_name, whole_in
-
-ALIKE_NAMES = ("a", "b", "ab", "aa", "abcdefgh", "abcdefgi", "abcdefg", "z")
-
-
-def web_of(names, ties):
-    """The web of these names with ties {(place, place): weight}."""
-    table = [[0] * len(names) for _ in names]
-    for (one, other), weight in ties.items():
-        table[one][other] = weight
-        table[other][one] = weight
-    return tuple(names), tuple(tuple(row) for row in table)
-
-
-def some_webs():
-    """Webs of one to eight places: without ties, with all, and with some."""
-    chance = random.Random(4)
-    for many in range(1, 9):
-        pairs = list(itertools.combinations_with_replacement(range(many), 2))
-        yield web_of(ALIKE_NAMES[:many], {})
-        yield web_of(ALIKE_NAMES[:many], {two: 1 for two in pairs})
-        for _ in range(20):
-            names = chance.sample(ALIKE_NAMES, many)
-            yield web_of(names, {two: chance.randint(-99, 99) for two in pairs if chance.random() < 0.6})
 
 
 class Case(unittest.TestCase):

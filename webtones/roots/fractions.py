@@ -55,12 +55,15 @@ def fraction_over(one, other):
     return fraction_of(one[0] * other[1], one[1] * other[0])
 
 
-def compared_fractions(one, other):
-    """-1 where the first fraction is less, 0 where both are the same, 1 where it is greater."""
-    left = one[0] * other[1]
-    right = other[0] * one[1]
-    if left < right:
+def sign_of(number):
+    """-1, 0 or 1: the sign of a whole number."""
+    if number < 0:
         return -1
-    if left > right:
+    if number > 0:
         return 1
     return 0
+
+
+def compared_fractions(one, other):
+    """-1 where the first fraction is less, 0 where both are the same, 1 where it is greater."""
+    return sign_of(one[0] * other[1] - other[0] * one[1])
