@@ -6,6 +6,8 @@ import random
 from fractions import Fraction
 from math import gcd, lcm
 
+from webtones.errors import NoAsk, NoName, NoParting, NoRoot, NoWeb, ToneError
+
 ALIKE_NAMES = ("a", "b", "ab", "aa", "abcdefgh", "abcdefgi", "abcdefg", "z")
 
 
@@ -149,6 +151,47 @@ def all_count(polynomial):
     numbers = numbers_of(polynomial)
     bound = 1 + max(abs(number / numbers[-1]) for number in numbers)
     return sturm_count(polynomial, -bound, bound)
+
+
+def divisor_of(one, other):
+    """The greatest common divisor of two polynomials, reckoned here."""
+    return poly(*chain_of(wholes_of(one), wholes_of(other))[-1])
+
+
+def sturm_ranks(one, other):
+    """The roots of each of two polynomials, as often as they come, by their numbers among the roots of both."""
+    both = sturm_chain(lone_part(times(one, other)))
+    bound = 1 + max(abs(number / two[-1]) for two in map(numbers_of, (one, other)) for number in two)
+    waiting, stretches = [(-bound, bound)], []
+    while waiting:
+        low, high = waiting.pop()
+        count = turns_at(both, low) - turns_at(both, high)
+        if count == 1:
+            stretches.append((low, high))
+        elif count > 1:
+            middle = (low + high) / 2
+            waiting += [(middle, high), (low, middle)]
+    return [sturm_repeats(polynomial, stretches) for polynomial in (one, other)]
+
+
+def sturm_repeats(polynomial, stretches):
+    told = []
+    while len(polynomial) > 1:
+        chain = sturm_chain(lone_part(polynomial))
+        told += [at for at, (low, high) in enumerate(stretches) if turns_at(chain, low) != turns_at(chain, high)]
+        polynomial = divisor_of(polynomial, poly(*slope(numbers_of(polynomial))))
+    return sorted(told)
+
+
+def check_refused(case, refusal, function, *arguments):
+    """The refusal, which is caught as any refusal, and as no other one."""
+    others = [other for other in (NoAsk, NoName, NoParting, NoRoot, NoWeb) if other != refusal]
+    with case.subTest(function=function.__name__, arguments=arguments):
+        for caught in (refusal, ToneError, ValueError):
+            with case.assertRaises(caught) as kept:
+                function(*arguments)
+            case.assertNotIsInstance(kept.exception, tuple(others))
+        return kept.exception
 
 
 def is_whole(thing):

@@ -9,7 +9,7 @@ def stretches_apart(wholes):
     """The stretches of the roots, rising, of a polynomial without repeats: pairs of fractions, as roots are told."""
     fractions = fraction_roots(wholes)
     rest = without_fractions(wholes, fractions)
-    bound = root_bound(rest) if len(rest) > 1 else 1
+    bound = root_bound(rest)
     told = [(fraction, fraction) for fraction in fractions]
     for at, halvings in unit_pieces(on_unit(rest, -bound, bound, 1)):
         low = bound * (2 * at - (1 << halvings))

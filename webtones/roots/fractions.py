@@ -37,17 +37,24 @@ def fraction_of(above, below):
 
 def fraction_plus(one, other):
     """The sum of two fractions."""
-    return fraction_of(one[0] * other[1] + other[0] * one[1], one[1] * other[1])
+    # What both have in common below is taken out first: divisors of lesser numbers are found sooner.
+    common = common_divisor(one[1], other[1])
+    beside = one[1] // common
+    above = one[0] * (other[1] // common) + other[0] * beside
+    divisor = common_divisor(above, common)
+    return above // divisor, beside * (other[1] // divisor)
 
 
 def fraction_less(one, other):
     """The first fraction less the second one."""
-    return fraction_of(one[0] * other[1] - other[0] * one[1], one[1] * other[1])
+    return fraction_plus(one, (-other[0], other[1]))
 
 
 def fraction_times(one, other):
     """The product of two fractions."""
-    return fraction_of(one[0] * other[0], one[1] * other[1])
+    left = common_divisor(one[0], other[1])
+    right = common_divisor(other[0], one[1])
+    return (one[0] // left) * (other[0] // right), (one[1] // right) * (other[1] // left)
 
 
 def fraction_over(one, other):

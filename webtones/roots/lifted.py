@@ -6,8 +6,6 @@ from webtones.roots.wholes import value_over, whole_over, whole_slope
 
 def fraction_roots(wholes):
     """The roots that are fractions, each once, of a polynomial without repeats, its last number above 0."""
-    if len(wholes) == 1:
-        return []
     last = wholes[-1]
     # Below a root that is a fraction stands a divisor of the last number: times that it is whole.
     beyond = 2 * last * root_bound(wholes)
@@ -36,7 +34,7 @@ def root_bound(wholes):
     most = 0
     for at in range(1, len(wholes)):
         bits = wholes[-1 - at].bit_length() - last + 1
-        # Rounded up, such that 2 to that power, at times, is no less than the number over the last.
+        # Rounded up: 2 to the power most, to the power at, is no less than this number over the last one.
         most = max(most, -(-bits // at))
     return 2 << most
 

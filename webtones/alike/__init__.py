@@ -1,0 +1,1 @@
+"""Webs compared with one another."""
