@@ -275,6 +275,11 @@ class Narrowed(unittest.TestCase):
             for width in self.WIDTHS:
                 self.assertEqual(narrowed(polynomial, ((3, 7), (3, 7)), pair(width)), ((3, 7), (3, 7)))
 
+    def test_a_wider_stretch_of_a_fraction_is_told_as_the_root_itself(self):
+        for polynomial in (line(Fraction(3, 7)), times(poly(-5, 0, 1), power(line(Fraction(3, 7)), 2))):
+            for width in self.WIDTHS:
+                self.assertEqual(narrowed(polynomial, ((0, 1), (2, 1)), pair(width)), ((3, 7), (3, 7)))
+
     def test_a_root_taken_an_even_number_of_times(self):
         polynomial = times(power(TWO, 2), power(poly(-3, 0, 1), 4), power(line(0), 2))
         for stretch, _ in roots_of(polynomial):

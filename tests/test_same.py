@@ -292,6 +292,19 @@ class NotLetBy(Case):
                 self.assert_not((self.GOOD[0], thing, *self.GOOD[2:]))
                 self.assert_not((*self.GOOD[:3], thing))
 
+    def test_other_words(self):
+        for word in ("like", "Unlike", "unlike ", "", "a", None, 0):
+            self.assert_not((*self.GOOD[:3], (word, "a")))
+            self.assert_not((*self.GOOD[:2], (word, "a"), self.GOOD[3]))
+
+    def test_what_is_no_tuple(self):
+        for thing in (list(self.GOOD), None, 0, "paper", {0: ("unlike", "a")}):
+            self.assert_not(thing)
+
+    def test_unlike_numbers_of_places(self):
+        self.assert_shown(self.ONE, (("x",), ((0,),)), (("try", (1,)), ("try", ())), False)
+        self.assert_shown((("x",), ((0,),)), self.ONE, self.GOOD, False)
+
     def test_a_truth_is_no_number_of_a_knot(self):
         one, other = (("a",), ((1,),)), (("b",), ((2,),))
         self.assert_shown(one, other, (("try", (True,)), ("unlike", "a")), False)

@@ -53,9 +53,8 @@ def add_knots(one, other, told, paper):
     # The knots to which it leads come behind it, so the knot itself is told last.
     paper.append(())
     knots = []
-    if len(told) < len(one[0]):
-        for place in places_left(other, told):
-            knots.append(add_knots(one, other, told + (place,), paper))
+    for place in places_left(other, told):
+        knots.append(add_knots(one, other, told + (place,), paper))
     paper[number] = ("try", tuple(knots))
     return number
 
@@ -88,7 +87,7 @@ def no_telling_shown(one, other, paper):
 
 def is_knot(knot):
     """Whether the thing is a pair whose first word is one of a knot's."""
-    return isinstance(knot, tuple) and len(knot) == 2 and isinstance(knot[0], str) and knot[0] in ("try", "unlike")
+    return isinstance(knot, tuple) and len(knot) == 2 and knot[0] in ("try", "unlike")
 
 
 def is_try(knots, number, end, many, named):
@@ -104,7 +103,7 @@ def is_try(knots, number, end, many, named):
 
 def is_unlike(one, other, told, name):
     """Whether the name is that of a told place whose tie with the one just told weighs otherwise."""
-    if not isinstance(name, str) or name not in one[0][:len(told)]:
+    if name not in one[0][:len(told)]:
         return False
     place = one[0].index(name)
     last = len(told) - 1

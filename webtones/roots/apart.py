@@ -101,15 +101,12 @@ def stretched(numbers):
 
 
 def inner_stretch(wholes, low, high, below, fractions):
-    """The stretch of the root between low and high, over below, wholly within, without any of these fractions."""
+    """The stretch of the root between low and high, over below, without its low end and any of these fractions."""
     sign = sign_of(value_over(wholes, low, below))
     least = fraction_of(low, below)
-    greatest = fraction_of(high, below)
-    told = (least, greatest)
-    while (
-        told[0] == least or told[1] == greatest
-        or any(is_within(fraction, told[0], told[1]) for fraction in fractions)
-    ):
+    told = (least, fraction_of(high, below))
+    # Pieces may meet at an end: where each has another low end, no two have a number in common.
+    while told[0] == least or any(is_within(fraction, told[0], told[1]) for fraction in fractions):
         low, high, below = halved(wholes, sign, low, high, below)
         told = (fraction_of(low, below), fraction_of(high, below))
     return told
