@@ -38,6 +38,14 @@ def called(node):
     return node.func.id if isinstance(node.func, ast.Name) else getattr(node.func, "attr", None)
 
 
+def own_methods():
+    """The names of the methods of all classes of the package."""
+    for path in FILES:
+        for node in ast.walk(ast.parse(path.read_text(encoding="utf-8"))):
+            if isinstance(node, ast.ClassDef):
+                yield from (row.name for row in node.body if isinstance(row, ast.FunctionDef))
+
+
 def bound_names(tree):
     for node in ast.walk(tree):
         if isinstance(node, ast.Name) and isinstance(node.ctx, ast.Store):
@@ -160,11 +168,23 @@ class Language(unittest.TestCase):
 
         self.each(check)
 
-    def test_methods_of_builtin_values(self):
+    def test_methods_are_those_of_builtin_values_and_own_ones(self):
+        own = set(own_methods())
+
         def check(text, tree):
             for node in ast.walk(tree):
                 if isinstance(node, ast.Call) and isinstance(node.func, ast.Attribute):
-                    self.assertIn(node.func.attr, METHODS)
+                    self.assertIn(node.func.attr, METHODS | own)
+
+        self.each(check)
+
+    def test_no_name_is_a_method_and_an_attribute(self):
+        own = set(own_methods())
+
+        def check(text, tree):
+            for node in ast.walk(tree):
+                if isinstance(node, ast.Attribute) and isinstance(node.ctx, ast.Store):
+                    self.assertNotIn(node.attr, own)
 
         self.each(check)
 

@@ -10,7 +10,7 @@ def table_times(one, other):
     """The product of two tables of as many rows."""
     columns = list(zip(*other))
     return tuple([
-        tuple([sum(left * right for left, right in zip(numbers, column)) for column in columns])
+        tuple([row_times(numbers, column) for column in columns])
         for numbers in one
     ])
 
@@ -26,3 +26,13 @@ def table_plus(one, other):
 def corner_sum(table):
     """The sum of the numbers from corner to corner."""
     return sum(numbers[at] for at, numbers in enumerate(table))
+
+
+def row_times(one, other):
+    """The sum of the products of two rows of as many whole numbers."""
+    return sum(left * right for left, right in zip(one, other))
+
+
+def square_by(table, numbers):
+    """The row times the table times the row."""
+    return row_times(numbers, [row_times(weights, numbers) for weights in table])

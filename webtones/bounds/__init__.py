@@ -1,0 +1,1 @@
+"""Bounds by tones, and rows that tell of them."""

@@ -1,0 +1,1 @@
+"""Trees that span webs."""
