@@ -2,7 +2,7 @@
 
 from webtones.errors import NoRoot
 from webtones.roots.apart import has_root_in, stretches_apart
-from webtones.roots.fractions import sign_of
+from webtones.roots.fractions import compared_fractions, sign_of
 from webtones.roots.polynomials import least_of
 from webtones.roots.wholes import joined, sign_over, without_repeats
 
@@ -15,8 +15,27 @@ def compared_roots(poly, number, other, beside):
 
 def compared_with(poly, number, fraction):
     """-1, 0 or 1: how the polynomial's root of that number compares with the fraction; or NoRoot."""
-    above, below = fraction
-    return compared_roots(poly, number, ((-above, below), (1, 1)), 0)
+    return counted(all_compared_with(poly, fraction), number)
+
+
+def all_compared_with(poly, fraction):
+    """For each root of the polynomial, rising, -1, 0 or 1: how it compares with the fraction."""
+    wholes = without_repeats(least_of(poly))
+    return [compared_in(wholes, stretch, fraction) for stretch in stretches_apart(wholes)]
+
+
+def compared_in(wholes, stretch, fraction):
+    """How the one root in the stretch, of a polynomial without repeats, compares with the fraction."""
+    low, high = stretch
+    if compared_fractions(fraction, low) < 0:
+        return 1
+    if compared_fractions(fraction, high) > 0:
+        return -1
+    # Within the stretch the sign turns at the root alone; ends that are the same are the root.
+    sign = sign_over(wholes, fraction)
+    if sign == 0:
+        return 0
+    return 1 if sign == sign_over(wholes, low) else -1
 
 
 def sign_at(poly, other, number):
